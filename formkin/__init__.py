@@ -1,0 +1,1 @@
+"""Formkin: records on a wire by forms that change."""
