@@ -7,6 +7,15 @@ class Thing:
     """An object of no kind that the program knows."""
 
 
+class Alike:
+    """An object that says of each thing that it is the same."""
+
+    __hash__ = None
+
+    def __eq__(self, other):
+        return True
+
+
 NO_NUMBERS = [None, True, False, 1.0, 0.0, "", "1", "0", b"\x01", [], [1], (), (1,), {}, {1: 1}, {1}, range(2), Thing()]
 
 NO_ROWS = [
@@ -32,3 +41,11 @@ def refusal(call, *arguments):
 def told(error):
     """The very class of a refusal and its fields, to be compared at once."""
     return type(error), dict(vars(error))
+
+
+def anything():
+    """Things of many kinds, new ones each time; none is a name, a number of a field, a kind, a field or a form."""
+    return [
+        None, True, False, 0, -1, 201, 10 ** 5000, 1.0, 0.5, float("nan"), "", "1", "A", "a b", b"a", [], [1], [[]],
+        (), (1,), {}, {"a": 1}, {1}, range(2), iter([]), Thing(), Thing, len, Ellipsis,
+    ]

@@ -23,6 +23,10 @@ DUNDERS = {"__init__", "__eq__", "__repr__", "__str__", "__len__"}
 NOT_USED = set("register mro elements open input version_info with_traceback add_note format format_map".split())
 NOT_NAMES = set("""attrgetter breakpoint builtins compile copyright credits delattr dir eval exec exit gc getattr globals
     hasattr help id importlib license locals methodcaller os quit setattr super type vars sys""".split())
+KEYWORDS = {"sorted": {"key", "reverse"}, "min": {"key", "default"}, "max": {"key", "default"}, "sum": {"start"},
+    "enumerate": {"start"}, "zip": {"strict"}}
+WALKED = {"zip", "enumerate", "reversed", "range", "items", "keys", "values"}
+WALKERS = {"list", "tuple", "dict", "sorted", "sum", "any", "all", "enumerate", "zip", "min", "max", "join"}
 NO_WORDS = set("""type typing typing_extensions enum Enum IntEnum StrEnum Flag IntFlag Generic Protocol ABC ABCMeta
     namedtuple NamedTuple TypedDict TYPE_CHECKING abstractmethod""".split())
 NOT_WITHIN = ["dataclass", "overload", "contextmanager"]
@@ -68,6 +72,40 @@ def bound_names(tree_nodes):
             yield node.id, node
         elif isinstance(node, ast.ExceptHandler) and node.name:
             yield node.name, node
+
+
+def called(node):
+    """The name by which something is called, or None."""
+    if not isinstance(node, ast.Call):
+        return None
+    return node.func.id if isinstance(node.func, ast.Name) else getattr(node.func, "attr", None)
+
+
+def within(name, node):
+    """What stands where a rule lets a class, a walk or a set stand, by the name of what is looked for."""
+    if name == "class" and isinstance(node, ast.ClassDef):
+        return node.bases
+    if name == "class" and isinstance(node, ast.ExceptHandler):
+        return [node.type]
+    if name == "class" and isinstance(node, ast.Attribute) and node.attr == "__init__":
+        return [node.value]
+    if name == "class" and isinstance(node, ast.Call):
+        return [node.func] + (node.args[1:] if called(node) == "isinstance" else [])
+    if name == "walk" and isinstance(node, (ast.For, ast.comprehension)):
+        return [node.iter]
+    if name == "walk" and called(node) in WALKERS:
+        return node.args
+    if name == "set" and called(node) in ("sorted", "len"):
+        return node.args
+    if name == "set" and isinstance(node, ast.Compare):
+        return [node.left] + node.comparators
+    return []
+
+
+def let_by(name, tree_nodes):
+    """Those nodes that stand where a rule lets such a thing stand."""
+    found = [part for node in tree_nodes for part in within(name, node)]
+    return found + [part for node in found if isinstance(node, ast.Tuple) for part in node.elts]
 
 
 def of_each_file(test):
@@ -247,6 +285,55 @@ class Language(unittest.TestCase):
                 if isinstance(node.ctx, ast.Store):
                     self.assertNotIn(node.attr, PYTHONS_OWN - VALUES | {"args"}, f"L26 line {node.lineno}")
                     self.assertNotIn(node.attr, methods, f"L18 line {node.lineno}")
+
+    @of_each_file
+    def test_classes_are_not_kept_or_handed_on(self, path):
+        found = nodes(path)
+        classes = {node.name for file in FILES for node in nodes(file) if isinstance(node, ast.ClassDef)}
+        may = let_by("class", found)
+        for node in found:
+            if isinstance(node, ast.Name) and node.id in classes:
+                self.assertIn(node, may, f"L18 line {node.lineno}")
+
+    @of_each_file
+    def test_keywords(self, path):
+        for node in nodes(path):
+            if called(node) in CALLED | METHODS | ERRORS:
+                used = {keyword.arg for keyword in node.keywords}
+                self.assertLessEqual(used, KEYWORDS.get(called(node), set()), f"L22 line {node.lineno}")
+
+    @of_each_file
+    def test_walked_at_once(self, path):
+        found = nodes(path)
+        may = let_by("walk", found)
+        for node in found:
+            if called(node) in WALKED:
+                self.assertIn(node, may, f"L23 line {node.lineno}")
+
+    @of_each_file
+    def test_sets_are_not_kept(self, path):
+        found = nodes(path)
+        may = let_by("set", found)
+        for node in found:
+            if isinstance(node, ast.Set) or called(node) in ("set", "frozenset"):
+                self.assertIn(node, may, f"L24 line {node.lineno}")
+
+    @of_each_file
+    def test_init_gives_back_nothing(self, path):
+        for node in nodes(path):
+            if isinstance(node, ast.FunctionDef) and node.name == "__init__":
+                for part in ast.walk(node):
+                    if isinstance(part, ast.Return):
+                        self.assertIsNone(part.value, f"L28 line {part.lineno}")
+
+    @of_each_file
+    def test_no_annotations(self, path):
+        for node in nodes(path):
+            self.assertNotIsInstance(node, ast.AnnAssign, "L21")
+            if isinstance(node, ast.arg):
+                self.assertIsNone(node.annotation, f"L21 line {node.lineno}")
+            if isinstance(node, ast.FunctionDef):
+                self.assertIsNone(node.returns, f"L21 line {node.lineno}")
 
     @of_each_file
     def test_is_stands_beside_plain_names_alone(self, path):
