@@ -18,11 +18,13 @@ CHECK_LAID_OVER = 4129
 SIGNS = "0123456789abcdef"
 
 
+def is_row(row):
+    return isinstance(row, (list, tuple)) and all([is_among(byte, 0, 255) for byte in row])
+
+
 def need_row(row):
-    if not isinstance(row, (list, tuple)):
-        raise BadRow("a row is a list or a tuple")
-    if not all([is_among(byte, 0, 255) for byte in row]):
-        raise BadRow("a row has bytes from 0 to 255 alone")
+    if not is_row(row):
+        raise BadRow("a row is a list or a tuple of bytes from 0 to 255")
 
 
 def need_among(number, least, most):

@@ -4,15 +4,13 @@ from formkin.bits import MOST_NUMBER
 from formkin.errors import BadBook, BadText
 from formkin.forms import Choice, Field, Record
 from formkin.kinds import MOST_SIGNS, Count, List, Nested, Text, Truth, Upto, Whole
-from formkin.words import is_among, is_name, number_of, number_text, words_of
+from formkin.words import is_among, is_name, number_of, number_text, truth_of, truth_text, words_of
 
 MOST_FORMS = 8
 MOST_FIELDS = 10
 MOST_GONE = 10
 MOST_FIELD_NUMBER = 200
 MOST_WEIGHT = 100
-
-TRUTHS = {"yes": True, "no": False}
 
 
 def are_unlike(things):
@@ -145,10 +143,9 @@ def weight(book, form):
     return book.weights[form.name]
 
 
-# Of what isn't blank alone: a truth is True then.
 def default_word(default):
     if isinstance(default, bool):
-        return "yes"
+        return truth_text(default)
     if isinstance(default, str):
         return default
     return number_text(default)
@@ -215,7 +212,7 @@ def kind_at(words, at):
 
 def default_of(kind, word):
     if isinstance(kind, Truth):
-        return TRUTHS.get(word)
+        return truth_of(word)
     if isinstance(kind, Text):
         return word if is_name(word) else None
     if kind.is_plain():

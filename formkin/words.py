@@ -1,9 +1,11 @@
-"""Names, numbers as texts, and the words of a line."""
+"""Names, numbers and truths as texts, and the words of a line."""
 
 LETTERS = "abcdefghijklmnopqrstuvwxyz"
 FIGURES = "0123456789"
 MOST_LETTERS = 12
 MOST_FIGURES = 80
+
+TRUTHS = {"yes": True, "no": False}
 
 
 def is_whole(thing):
@@ -40,6 +42,15 @@ def number_of(word):
     if figures.startswith("0") and word != "0":
         return None
     return int(word)
+
+
+def truth_text(truth):
+    return "yes" if truth else "no"
+
+
+# None of a word that writes no truth.
+def truth_of(word):
+    return TRUTHS.get(word)
 
 
 def words_of(line):
