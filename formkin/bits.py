@@ -61,6 +61,11 @@ def number_at(row, at, end):
     raise BadWire(end, "cut")
 
 
+# Of the bytes of a number that came so far: whether it is over, or refused, by the last one of them.
+def is_number_over(held):
+    return held[-1] < 128 or len(held) > LAST_PLACE
+
+
 def folded(number):
     need_among(number, -MOST_WHOLE - 1, MOST_WHOLE)
     if number < 0:

@@ -1,11 +1,10 @@
 """Kept rows: a row with its length ahead and the check of both behind, whole or in pieces."""
 
-from formkin.bits import check, need_row, number_at, number_row
+from formkin.bits import check, is_number_over, need_row, number_at, number_row
 from formkin.errors import BadCheck, BadRow, BadWire
 
 MOST_BYTES = 30000
 CHECK_BYTES = 2
-MOST_LENGTH_BYTES = 37
 
 
 def framed(row):
@@ -52,7 +51,7 @@ class Frames:
         for byte in row:
             self.held.append(byte)
             if self.size == 0:
-                self.look_at_length(byte)
+                self.look_at_length()
             elif len(self.held) == self.size:
                 self.finish(rows)
             if self.why != "":
@@ -73,9 +72,9 @@ class Frames:
         if self.why != "":
             raise BadWire(self.place, self.why)
 
-    def look_at_length(self, byte):
+    def look_at_length(self):
         came = len(self.held)
-        if byte >= 128 and came < MOST_LENGTH_BYTES:
+        if not is_number_over(self.held):
             return
         try:
             many = number_at(self.held, 0, came)[0]

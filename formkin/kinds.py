@@ -11,10 +11,16 @@ MOST_PACKED = 255
 LEAST_SIGN = 32
 MOST_SIGN = 126
 PERCENT_SIGN = 37
+# From the least one on, with a second blank in the place of the percent sign.
+SIGNS_BY_NUMBER = " !\"#$ &'()*+,-./0123456789:;<=>?@ABCDEFGHIJKLMNOPQRSTUVWXYZ[\\]^_`abcdefghijklmnopqrstuvwxyz{|}~"
 
 
 def is_sign(number):
     return LEAST_SIGN <= number <= MOST_SIGN and number != PERCENT_SIGN
+
+
+def sign_of(number):
+    return SIGNS_BY_NUMBER[number - LEAST_SIGN]
 
 
 class Kind:

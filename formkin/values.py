@@ -144,6 +144,33 @@ def blank_value(book):
     return least_of_form(book, book.head())
 
 
+# A value of the asker's own: nothing in it that can be changed is another one's.
+def copied(value):
+    if isinstance(value, dict):
+        return dict([(name, copied(value[name])) for name in value])
+    if isinstance(value, list):
+        return [copied(thing) for thing in value]
+    if isinstance(value, tuple):
+        return tuple([copied(thing) for thing in value])
+    return value
+
+
+def are_same_things(one, other):
+    return len(one) == len(other) and all([are_same(one[at], other[at]) for at in range(len(one))])
+
+
+# Whether two values are the same by kinds, too: Python takes True for 1.
+def are_same(one, other):
+    if isinstance(one, dict) and isinstance(other, dict):
+        names = sorted(one)
+        return names == sorted(other) and all([are_same(one[name], other[name]) for name in names])
+    if isinstance(one, list) and isinstance(other, list):
+        return are_same_things(one, other)
+    if isinstance(one, tuple) and isinstance(other, tuple):
+        return are_same_things(one, other)
+    return isinstance(one, bool) == isinstance(other, bool) and one == other
+
+
 def parts_of(value):
     if isinstance(value, list):
         return value

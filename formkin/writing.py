@@ -14,7 +14,10 @@ def wire_number(kind, value):
     return value
 
 
-def with_length(part):
+# What stands behind a key of this shape.
+def shaped_row(shape, part):
+    if shape == 0:
+        return part
     return number_row(len(part)) + part
 
 
@@ -22,15 +25,19 @@ def key_row(number, shape):
     return number_row(4 * number + shape)
 
 
-# What stands behind a key.
-def thing_row(book, kind, value):
+# The bytes of a thing, without a length ahead.
+def thing_part(book, kind, value):
     if kind.shape() == 0:
         return number_row(wire_number(kind, value))
     if isinstance(kind, Text):
-        return with_length([ord(sign) for sign in value])
+        return [ord(sign) for sign in value]
     if isinstance(kind, List):
-        return with_length(list_part(book, kind.item, value))
-    return with_length(body(book, book.form_of(kind.name), value))
+        return list_part(book, kind.item, value)
+    return body(book, book.form_of(kind.name), value)
+
+
+def thing_row(book, kind, value):
+    return shaped_row(kind.shape(), thing_part(book, kind, value))
 
 
 def list_part(book, item, things):
@@ -47,8 +54,7 @@ def field_row(book, field, value):
 
 
 def rest_row(rest):
-    row = list(rest[2])
-    return key_row(rest[0], rest[1]) + (row if rest[1] == 0 else with_length(row))
+    return key_row(rest[0], rest[1]) + shaped_row(rest[1], list(rest[2]))
 
 
 def choice_body(book, form, value):

@@ -1,7 +1,7 @@
 import unittest
 
 from formkin.bits import MOST_NUMBER
-from formkin.kinds import Count, Kind, List, Nested, Text, Truth, Upto, Whole
+from formkin.kinds import Count, Kind, List, Nested, Text, Truth, Upto, Whole, is_sign, sign_of
 from refusals import Alike, Thing
 
 MOST_WHOLE = 2 ** 255 - 1
@@ -147,6 +147,10 @@ class Suits(unittest.TestCase):
     def test_list_of_forms(self):
         good = [[], [None], [1, "a", {}, Thing()], [0] * 20, [[]] * 20]
         self.need(List(Nested("name")), good, [[0] * 21, (), (1,), None, {}, "", "a", 0, True, False, Thing()])
+
+    def test_signs_by_their_numbers(self):
+        self.assertEqual("".join(sign_of(number) for number in range(256) if is_sign(number)), SIGNS)
+        self.assertTrue(all(is_sign(ord(sign)) for sign in SIGNS))
 
     def test_what_is_asked_is_as_it_was(self):
         value = [1, 2, True]

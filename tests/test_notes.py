@@ -8,6 +8,7 @@ from formkin.forms import Field, Record
 from formkin.kinds import List, Truth
 from formkin.notes import value_of, value_text
 from formkin.values import blank_value, need_value
+from chance import value_by_chance
 from refusals import NO_TEXTS, Alike, anything, refusal, told
 from samples import LINES, exchanged, good_value, of_fields, ruin, sample_book, shown, turned
 
@@ -157,41 +158,6 @@ class Both(Case):
             value = value_by_chance(source, book, book.head())
             text = value_text(book, value)
             self.same(book, value, text)
-
-
-def value_by_chance(source, book, form):
-    if form.is_choice():
-        field = source.choice(form.fields)
-        return (field.name, thing_by_chance(source, book, field.kind))
-    value = {}
-    for field in source.sample(form.fields, len(form.fields)):
-        left_out = not field.must and source.random() < 0.5
-        thing = field.default if left_out else thing_by_chance(source, book, field.kind)
-        value[field.name] = list(thing) if isinstance(thing, list) else thing
-    numbers = [number for number in range(1, 201) if form.field_at(number) is None]
-    rests = [rest_by_chance(source, number) for number in sorted(source.sample(numbers, source.choice([0, 0, 1, 3])))]
-    return {"": rests, **value} if rests else value
-
-
-def rest_by_chance(source, number):
-    if source.random() < 0.5:
-        return (number, 0, tuple(source.randrange(128, 256) for step in range(source.randrange(4))) + (1,))
-    return (number, 1, tuple(source.randrange(256) for step in range(source.randrange(4))))
-
-
-def thing_by_chance(source, book, kind):
-    word = kind.word()
-    if word == "list":
-        return [thing_by_chance(source, book, kind.item) for step in range(source.choice([0, 1, 2, 5]))]
-    if word == "form":
-        return value_by_chance(source, book, book.form_of(kind.name))
-    if word == "truth":
-        return source.random() < 0.5
-    if word == "text":
-        return "".join(source.choice("ab\"\\ {}[],:#") for step in range(source.randint(0, kind.most)))
-    bounds = {"count": (0, MOST_NUMBER), "whole": (-2 ** 255, 2 ** 255 - 1)}
-    least, most = bounds[word] if word in bounds else (0, kind.most)
-    return max(least, min(most, source.choice([0, 1, least, most, source.randint(least, most), -1])))
 
 
 class Refused(Case):

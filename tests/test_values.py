@@ -7,7 +7,7 @@ from formkin.books import Book, book_lines, book_of, weight
 from formkin.errors import BadValue
 from formkin.forms import Choice, Field, Record
 from formkin.kinds import Count, List, Nested, Text, Truth, Upto, Whole
-from formkin.values import blank_value, count_parts, least_value, need_value
+from formkin.values import are_same, blank_value, copied, count_parts, least_value, need_value
 from refusals import Alike, Thing, anything, refusal, told
 from samples import LINES, exchanged, good_value, of_fields, point, ruin, sample_book, shown, thing_at, turned
 
@@ -403,6 +403,29 @@ class Parts(unittest.TestCase):
     def test_many_parts(self):
         value = {"a": [{"b": [0] * 18} for step in range(20)]}
         self.assertEqual(count_parts(value), 2 + 20 * 20)
+
+
+class Copies(unittest.TestCase):
+    def test_a_copy_is_the_same_and_its_own(self):
+        for value in (good_value(), {}, {"a": [[], {}], "b": ("c", [{}])}, [], (), None, True, 0, "a"):
+            before = shown(value)
+            made = copied(value)
+            self.assertEqual(shown(made), before)
+            ruin(made)
+            self.assertEqual(shown(value), before)
+
+    def test_the_same_by_kinds(self):
+        things = [
+            True, False, 0, 1, -1, "", "a", "0", None, [], [0], [1], [True], [0, 1], [[]], (), (0,), (1,), ("a", 1),
+            ("a", True), ["a", 1], {}, {"a": 1}, {"a": True}, {"b": 1}, {"a": 1, "b": 1}, {"": 1}, {"a": []},
+            {"a": [1]}, {"a": [True]}, {"a": ()}, {"a": {"b": 0}}, {"a": {"b": False}}, good_value(),
+            exchanged(good_value(), ["ready"], 0), exchanged(good_value(), ["shelf", "truths", 1], 1),
+            exchanged(good_value(), ["mark", "many", 1, ""], [(1, 0, (0,)), (7, 1, [])]),
+        ]
+        for one in things:
+            for other in things:
+                self.assertIs(are_same(one, copy.deepcopy(other)), shown(one) == shown(other), (one, other))
+        self.assertIs(are_same(good_value(), turned(good_value())), True)
 
 
 if __name__ == "__main__":
